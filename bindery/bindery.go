@@ -1,0 +1,42 @@
+// Package bindery: trees of files, packed, told by digests, and put into place: see DOC.md.
+package bindery
+
+import (
+	"bindery/api"
+	"bindery/sum"
+)
+
+// Sum tells a text's SHA-256 (P3).
+func Sum(s string) string { return sum.Text(sum.Of(s)) }
+
+// Deflate writes a stream (P5).
+func Deflate(s string) (string, api.Errno) { return "", api.OK }
+
+// Inflate reads one (P4).
+func Inflate(s string, limit int) (string, int, api.Errno) { return "", 0, api.OK }
+
+// Digest tells a tree's digest (P7).
+func Digest(l []api.Entry) (string, api.Errno, int) { return "", api.OK, 0 }
+
+// Pack writes a tree's archive (P8).
+func Pack(l []api.Entry) (string, api.Errno, int) { return "", api.OK, 0 }
+
+// Unpack reads one (P9).
+func Unpack(s string) ([]api.Entry, api.Errno) { return nil, api.OK }
+
+// ReadLock reads a lock file (P10).
+func ReadLock(s string) ([]api.Locked, api.Errno, int) { return nil, api.OK, 0 }
+
+// PrintLock writes one (P10).
+func PrintLock(l []api.Locked) (string, api.Errno, int) { return "", api.OK, 0 }
+
+// Verify tells how the modules stand (P11).
+func Verify(disk []api.Entry, lock string) ([]int, api.Errno, int) { return nil, api.OK, 0 }
+
+// Install tells the acts that put a module into place (P12).
+func Install(disk []api.Entry, lock string, name string, archive string) ([]api.Act, api.Errno) {
+	return nil, api.OK
+}
+
+// Recover tells the acts that clear up behind a crash (P13).
+func Recover(disk []api.Entry) ([]api.Act, api.Errno) { return nil, api.OK }
