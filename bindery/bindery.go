@@ -3,6 +3,7 @@ package bindery
 
 import (
 	"bindery/api"
+	"bindery/stream"
 	"bindery/sum"
 )
 
@@ -10,10 +11,16 @@ import (
 func Sum(s string) string { return sum.Text(sum.Of(s)) }
 
 // Deflate writes a stream (P5).
-func Deflate(s string) (string, api.Errno) { return "", api.OK }
+func Deflate(s string) (string, api.Errno) {
+	out, err := stream.Deflate(s)
+	return out, streamErrno(err)
+}
 
 // Inflate reads one (P4).
-func Inflate(s string, limit int) (string, int, api.Errno) { return "", 0, api.OK }
+func Inflate(s string, limit int) (string, int, api.Errno) {
+	out, used, err := stream.Inflate(s, limit)
+	return out, used, streamErrno(err)
+}
 
 // Digest tells a tree's digest (P7).
 func Digest(l []api.Entry) (string, api.Errno, int) { return "", api.OK, 0 }
