@@ -5,6 +5,7 @@ import (
 	"bindery/api"
 	"bindery/stream"
 	"bindery/sum"
+	"bindery/tree"
 )
 
 // Sum tells a text's SHA-256 (P3).
@@ -23,13 +24,36 @@ func Inflate(s string, limit int) (string, int, api.Errno) {
 }
 
 // Digest tells a tree's digest (P7).
-func Digest(l []api.Entry) (string, api.Errno, int) { return "", api.OK, 0 }
+func Digest(l []api.Entry) (string, api.Errno, int) {
+	t, no, at := tree.Of(l)
+	if no != api.OK {
+		return "", no, at
+	}
+	return sum.Text(t.Digest()), api.OK, 0
+}
 
 // Pack writes a tree's archive (P8).
-func Pack(l []api.Entry) (string, api.Errno, int) { return "", api.OK, 0 }
+func Pack(l []api.Entry) (string, api.Errno, int) {
+	t, no, at := tree.Of(l)
+	if no != api.OK {
+		return "", no, at
+	}
+	archive, err := stream.Deflate(t.Series())
+	return archive, streamErrno(err), 0
+}
 
 // Unpack reads one (P9).
-func Unpack(s string) ([]api.Entry, api.Errno) { return nil, api.OK }
+func Unpack(s string) ([]api.Entry, api.Errno) {
+	series, used, err := stream.Inflate(s, api.MaxStream)
+	if err != nil {
+		return nil, streamErrno(err)
+	}
+	t, ok := tree.FromSeries(series)
+	if !ok || used != len(s) {
+		return nil, api.ErrArchive
+	}
+	return t.Entries(), api.OK
+}
 
 // ReadLock reads a lock file (P10).
 func ReadLock(s string) ([]api.Locked, api.Errno, int) { return nil, api.OK, 0 }
