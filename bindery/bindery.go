@@ -3,6 +3,8 @@ package bindery
 
 import (
 	"bindery/api"
+	"bindery/lockfile"
+	"bindery/place"
 	"bindery/stream"
 	"bindery/sum"
 	"bindery/tree"
@@ -56,13 +58,22 @@ func Unpack(s string) ([]api.Entry, api.Errno) {
 }
 
 // ReadLock reads a lock file (P10).
-func ReadLock(s string) ([]api.Locked, api.Errno, int) { return nil, api.OK, 0 }
+func ReadLock(s string) ([]api.Locked, api.Errno, int) { return lockfile.Read(s) }
 
 // PrintLock writes one (P10).
-func PrintLock(l []api.Locked) (string, api.Errno, int) { return "", api.OK, 0 }
+func PrintLock(l []api.Locked) (string, api.Errno, int) { return lockfile.Print(l) }
 
 // Verify tells how the modules stand (P11).
-func Verify(disk []api.Entry, lock string) ([]int, api.Errno, int) { return nil, api.OK, 0 }
+func Verify(disk []api.Entry, lock string) ([]int, api.Errno, int) {
+	if !tree.IsDisk(disk) {
+		return nil, api.ErrTree, 0
+	}
+	modules, no, at := lockfile.Read(lock)
+	if no != api.OK {
+		return nil, no, at
+	}
+	return place.Standing(disk, modules), api.OK, 0
+}
 
 // Install tells the acts that put a module into place (P12).
 func Install(disk []api.Entry, lock string, name string, archive string) ([]api.Act, api.Errno) {

@@ -35,12 +35,19 @@ func modelHasParent(l []api.Entry, e api.Entry) bool {
 }
 
 // modelCheck tells what P6 asks for.
-func modelCheck(l []api.Entry) (api.Errno, int) {
+func modelCheck(l []api.Entry) (api.Errno, int) { return modelCheckOf(l, 60, 8000) }
+
+func modelIsDisk(l []api.Entry) bool {
+	no, _ := modelCheckOf(l, 200, 40000)
+	return no == api.OK
+}
+
+func modelCheckOf(l []api.Entry, mostEntries, mostBytes int) (api.Errno, int) {
 	bytes := 0
 	for _, e := range l {
 		bytes += len(e.Body)
 	}
-	if len(l) > 60 || bytes > 8000 {
+	if len(l) > mostEntries || bytes > mostBytes {
 		return api.ErrMany, 0
 	}
 	for i, e := range l {
@@ -147,13 +154,23 @@ func allOrders(l []api.Entry, see func(l []api.Entry)) {
 // guarded hands see a list with spare room, and fails if one of its elements, or of the spare ones, is changed.
 func guarded(t *testing.T, l []api.Entry, see func(l []api.Entry)) {
 	t.Helper()
-	room := slices.Clone(l)
-	for k := range 5 {
-		room = append(room, api.Entry{Path: fmt.Sprint("spare", k), Dir: k%2 == 0, Body: "spare"})
-	}
+	guardedBy(t, l, []api.Entry{dir("spare0"), file("spare1", "spare"), dir("spare2"), file("spare3", "")}, see)
+}
+
+func guardedBy[T comparable](t *testing.T, l, spare []T, see func(l []T)) {
+	t.Helper()
+	room := slices.Concat(l, spare)
 	was := slices.Clone(room)
 	see(room[:len(l)])
 	if !slices.Equal(room, was) {
 		t.Errorf("P2: a list that was handed in, or its spare room, was %.200v, and is %.200v", was, room)
 	}
+}
+
+// brief tells the first of what may be a long list or text.
+func brief(v any) string {
+	if s, ok := v.(string); ok {
+		return fmt.Sprintf("%.300q", s)
+	}
+	return fmt.Sprintf("%.300s", fmt.Sprintf("%.100q", v))
 }

@@ -51,6 +51,19 @@ func Text(sum [Size]byte) string {
 	return b.String()
 }
 
+// IsText tells whether s is written as Text writes sums.
+func IsText(s string) bool {
+	if len(s) != 2*Size {
+		return false
+	}
+	for i := range len(s) {
+		if strings.IndexByte(digits, s[i]) < 0 {
+			return false
+		}
+	}
+	return true
+}
+
 // start is the first 32 bits of the fractions of the square roots of the first 8 primes.
 func start() state {
 	return state{

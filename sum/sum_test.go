@@ -76,3 +76,20 @@ func FuzzOf(f *testing.F) {
 		}
 	})
 }
+
+func TestIsTextOfWhatTextWrites(t *testing.T) {
+	text := Text(Of("abc"))
+	if !IsText(text) || !IsText(strings.Repeat("0123456789abcdef", 4)) {
+		t.Errorf("%q is a text of a sum", text)
+	}
+	for n := range text {
+		if IsText(text[:n]) {
+			t.Errorf("%q is too short", text[:n])
+		}
+	}
+	for _, s := range []string{text + "0", text + text, strings.ToUpper(text), text[:63] + "g", "/" + text[1:], ":" + text[1:], "`" + text[1:], text[:63] + "\n", text[:62] + "\u00e9"} {
+		if IsText(s) {
+			t.Errorf("%q is no text of a sum", s)
+		}
+	}
+}

@@ -2,9 +2,21 @@ package tree
 
 import "bindery/api"
 
-// check tells the first rule by which the entries are no tree, and the number of the first one that breaks it.
-func check(l []api.Entry) (api.Errno, int) {
-	if tooMany(l) {
+// bounds are how much a list of entries may have.
+type bounds struct {
+	entries int
+	bytes   int // in all Bodies
+}
+
+// IsDisk tells whether the entries are a disk: by its bounds it is greater than a tree, by all else it is one.
+func IsDisk(l []api.Entry) bool {
+	no, _ := check(l, bounds{entries: api.MaxFiles, bytes: api.MaxDisk})
+	return no == api.OK
+}
+
+// check tells the first rule by which the entries are no tree of these bounds, and the number of the first one that breaks it.
+func check(l []api.Entry, most bounds) (api.Errno, int) {
+	if tooMany(l, most) {
 		return api.ErrMany, 0
 	}
 	if i := firstWrong(l); i < len(l) {
@@ -19,15 +31,19 @@ func check(l []api.Entry) (api.Errno, int) {
 	return api.OK, 0
 }
 
-func tooMany(l []api.Entry) bool {
-	if len(l) > api.MaxEntries {
+// tooMany counts down and stops below 0, so that no number of long Bodies wraps the count round.
+func tooMany(l []api.Entry, most bounds) bool {
+	if len(l) > most.entries {
 		return true
 	}
-	all := 0
+	left := most.bytes
 	for _, e := range l {
-		all += len(e.Body)
+		left -= len(e.Body)
+		if left < 0 {
+			return true
+		}
 	}
-	return all > api.MaxAll
+	return false
 }
 
 // firstWrong finds the first entry that may not be; as the others here, it answers len(l) if there is none.

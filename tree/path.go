@@ -54,3 +54,17 @@ func cut(path string) (parent, name string) {
 	}
 	return path[:i], path[i+1:]
 }
+
+// Join tells the path that one has within another.
+func Join(outer, inner string) string { return outer + slash + inner }
+
+// Within lists what is within a path, by the paths that it has there.
+func Within(l []api.Entry, path string) []api.Entry {
+	var inner []api.Entry
+	for _, e := range l {
+		if rest, ok := strings.CutPrefix(e.Path, path+slash); ok {
+			inner = append(inner, api.Entry{Path: rest, Dir: e.Dir, Body: e.Body})
+		}
+	}
+	return inner
+}

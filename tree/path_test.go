@@ -1,8 +1,11 @@
 package tree
 
 import (
+	"slices"
 	"strings"
 	"testing"
+
+	"bindery/api"
 )
 
 func TestNames(t *testing.T) {
@@ -38,5 +41,35 @@ func TestCut(t *testing.T) {
 		if parent, name := cut(c.path); parent != c.parent || name != c.name {
 			t.Errorf("cut(%q) = %q, %q", c.path, parent, name)
 		}
+	}
+}
+
+func TestJoin(t *testing.T) {
+	if path := Join("a/b", "c/d"); path != "a/b/c/d" {
+		t.Errorf("%q", path)
+	}
+}
+
+func TestWithinIsNewAndHasWhatIsBelowAlone(t *testing.T) {
+	l := []api.Entry{{Path: "a/b/c", Body: "x"}, {Path: "a", Dir: true}, {Path: "a/b", Dir: true}, {Path: "ab", Body: "y"}, {Path: "b", Dir: true}, {Path: "b/a", Dir: true}, {Path: "b/a/b", Body: "z"}}
+	was := slices.Clone(l)
+	want := []api.Entry{{Path: "b/c", Body: "x"}, {Path: "b", Dir: true}}
+	for range 2 {
+		inner := Within(l, "a")
+		if !slices.Equal(inner, want) {
+			t.Errorf("%v, want %v", inner, want)
+		}
+		inner = inner[:cap(inner)]
+		for i := range inner {
+			inner[i] = api.Entry{Path: "over"}
+		}
+	}
+	for _, path := range []string{"ab", "a/b/c", "c", "A"} {
+		if inner := Within(l, path); len(inner) != 0 {
+			t.Errorf("within %q: %v", path, inner)
+		}
+	}
+	if !slices.Equal(l, was) {
+		t.Errorf("%v is changed", l)
 	}
 }

@@ -34,7 +34,7 @@ func (d directory) name() string { return d.called }
 
 // Of makes a tree of entries in whatever order. If they are none, it tells why, and the number of the entry.
 func Of(l []api.Entry) (Tree, api.Errno, int) {
-	if no, at := check(l); no != api.OK {
+	if no, at := check(l, bounds{entries: api.MaxEntries, bytes: api.MaxAll}); no != api.OK {
 		return Tree{}, no, at
 	}
 	return below(l, ""), api.OK, 0

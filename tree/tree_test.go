@@ -2,6 +2,8 @@ package tree
 
 import (
 	"slices"
+	"strconv"
+	"strings"
 	"testing"
 
 	"bindery/api"
@@ -59,6 +61,24 @@ func TestOfTellsWhyItIsNone(t *testing.T) {
 	} {
 		if got, no, at := Of(c.l); got.nodes != nil || no != c.no || at != c.at {
 			t.Errorf("Of(%v) = %v, %d, %d, want %d, %d", c.l, got, no, at, c.no, c.at)
+		}
+	}
+}
+
+func TestIsDiskHasBoundsOfItsOwn(t *testing.T) {
+	var l []api.Entry
+	for i := range api.MaxFiles {
+		l = append(l, api.Entry{Path: "n" + strconv.Itoa(i), Body: strings.Repeat("x", api.MaxDisk/api.MaxFiles)})
+	}
+	if !IsDisk(nil) || !IsDisk(small()) || !IsDisk(l) {
+		t.Errorf("these are disks")
+	}
+	if IsDisk(append(slices.Clone(l[1:]), api.Entry{Path: "a", Body: l[0].Body + "x"})) || IsDisk(append(l, api.Entry{Path: "a"})) {
+		t.Errorf("too much is no disk")
+	}
+	for _, e := range []api.Entry{{Path: "a/"}, {Path: "b"}, {Path: "c/a"}, {Path: "d", Dir: true, Body: "x"}} {
+		if IsDisk(append(small(), e)) {
+			t.Errorf("with %v it is no disk", e)
 		}
 	}
 }
