@@ -2,6 +2,8 @@
 package bindery
 
 import (
+	"slices"
+
 	"bindery/api"
 	"bindery/lockfile"
 	"bindery/place"
@@ -46,15 +48,21 @@ func Pack(l []api.Entry) (string, api.Errno, int) {
 
 // Unpack reads one (P9).
 func Unpack(s string) ([]api.Entry, api.Errno) {
+	t, no := unpacked(s)
+	return t.Entries(), no
+}
+
+// unpacked tells the tree of an archive; beside an error it has no entries.
+func unpacked(s string) (tree.Tree, api.Errno) {
 	series, used, err := stream.Inflate(s, api.MaxStream)
 	if err != nil {
-		return nil, streamErrno(err)
+		return tree.Tree{}, streamErrno(err)
 	}
 	t, ok := tree.FromSeries(series)
 	if !ok || used != len(s) {
-		return nil, api.ErrArchive
+		return tree.Tree{}, api.ErrArchive
 	}
-	return t.Entries(), api.OK
+	return t, api.OK
 }
 
 // ReadLock reads a lock file (P10).
@@ -77,8 +85,35 @@ func Verify(disk []api.Entry, lock string) ([]int, api.Errno, int) {
 
 // Install tells the acts that put a module into place (P12).
 func Install(disk []api.Entry, lock string, name string, archive string) ([]api.Act, api.Errno) {
-	return nil, api.OK
+	if !tree.IsDisk(disk) {
+		return nil, api.ErrTree
+	}
+	modules, no, _ := lockfile.Read(lock)
+	if no != api.OK {
+		return nil, no
+	}
+	i := slices.IndexFunc(modules, func(m api.Locked) bool { return m.Name == name })
+	if i < 0 {
+		return nil, api.ErrName
+	}
+	t, no := unpacked(archive)
+	if no != api.OK {
+		return nil, api.ErrArchive
+	}
+	if sum.Text(t.Digest()) != modules[i].Digest {
+		return nil, api.ErrDigest
+	}
+	within := t.Entries()
+	if !place.HasRoom(disk, name, within) {
+		return nil, api.ErrPlace
+	}
+	return place.Install(disk, modules[i], within), api.OK
 }
 
 // Recover tells the acts that clear up behind a crash (P13).
-func Recover(disk []api.Entry) ([]api.Act, api.Errno) { return nil, api.OK }
+func Recover(disk []api.Entry) ([]api.Act, api.Errno) {
+	if !tree.IsDisk(disk) {
+		return nil, api.ErrTree
+	}
+	return place.Recover(disk), api.OK
+}

@@ -1,4 +1,4 @@
-// Package place tells what stands where on a disk.
+// Package place tells what stands where on a disk, and by which acts a module comes into its place.
 package place
 
 import (
@@ -19,8 +19,8 @@ func Standing(disk []api.Entry, modules []api.Locked) []int {
 }
 
 func standingOf(disk []api.Entry, m api.Locked) int {
-	home := tree.Join(api.Vendor, m.Name)
-	i := slices.IndexFunc(disk, func(e api.Entry) bool { return e.Path == home })
+	home := homeOf(m.Name)
+	i := find(disk, home)
 	switch {
 	case i < 0:
 		return api.Absent
@@ -34,4 +34,12 @@ func standingOf(disk []api.Entry, m api.Locked) int {
 func hasDigest(l []api.Entry, digest string) bool {
 	t, no, _ := tree.Of(l)
 	return no == api.OK && sum.Text(t.Digest()) == digest
+}
+
+// homeOf tells the path at which a module stands.
+func homeOf(name string) string { return tree.Join(api.Vendor, name) }
+
+// find tells the number of the entry that is at a path, or -1.
+func find(disk []api.Entry, path string) int {
+	return slices.IndexFunc(disk, func(e api.Entry) bool { return e.Path == path })
 }
