@@ -107,7 +107,7 @@ func Install(disk []api.Entry, lock string, name string, archive string) ([]api.
 	if !place.HasRoom(disk, name, within) {
 		return nil, api.ErrPlace
 	}
-	return place.Install(disk, modules[i], within), api.OK
+	return place.Install(disk, name, within), api.OK
 }
 
 // Recover tells the acts that clear up behind a crash (P13).

@@ -18,15 +18,16 @@ const (
 func Recover(disk []api.Entry) []api.Act { return removals(pathsAt(disk, api.Stage)) }
 
 // Install lists the acts that put a module's tree, told in its order, into its place. The disk must have room for it.
-func Install(disk []api.Entry, m api.Locked, within []api.Entry) []api.Act {
+func Install(disk []api.Entry, name string, within []api.Entry) []api.Act {
+	home := homeOf(name)
 	// What an earlier crash left would be in the way, and there may be room only for one tree.
 	acts := Recover(disk)
-	if standingOf(disk, m) == api.Good {
+	if holds(disk, home, within) {
 		return acts
 	}
 	acts = append(acts, api.Act{Kind: api.Mkdir, Path: api.Stage})
 	acts = append(acts, laying(coming, within)...)
-	acts = append(acts, exchange(disk, homeOf(m.Name))...)
+	acts = append(acts, exchange(disk, home)...)
 	return append(acts, api.Act{Kind: api.Remove, Path: api.Stage})
 }
 

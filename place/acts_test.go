@@ -5,7 +5,6 @@ import (
 	"testing"
 
 	"bindery/api"
-	"bindery/sum"
 )
 
 func check(t *testing.T, got []api.Act, want ...api.Act) {
@@ -23,7 +22,7 @@ func move(path, to string) api.Act { return api.Act{Kind: api.Move, Path: path, 
 
 func TestInstallOnAnEmptyDisk(t *testing.T) {
 	within := []api.Entry{{Path: "a", Dir: true}, {Path: "a/b", Body: "x"}}
-	check(t, Install(nil, api.Locked{Name: "m"}, within),
+	check(t, Install(nil, "m", within),
 		mkdir("stage"), mkdir("stage/n"), mkdir("stage/n/a"), api.Act{Kind: api.Write, Path: "stage/n/a/b", Body: "x"},
 		mkdir("vendor"), move("stage/n", "vendor/m"), remove("stage"))
 }
@@ -31,7 +30,7 @@ func TestInstallOnAnEmptyDisk(t *testing.T) {
 func TestInstallInThePlaceOfAnother(t *testing.T) {
 	disk := []api.Entry{{Path: "stage", Dir: true}, {Path: "stage/n"}, {Path: "vendor", Dir: true}, {Path: "vendor/m", Dir: true}, {Path: "vendor/m/a", Dir: true}, {Path: "vendor/m/a/b"}, {Path: "vendor/mm"}}
 	was := slices.Clone(disk)
-	check(t, Install(disk, api.Locked{Name: "m"}, nil),
+	check(t, Install(disk, "m", nil),
 		remove("stage/n"), remove("stage"), mkdir("stage"), mkdir("stage/n"),
 		move("vendor/m", "stage/o"), move("stage/n", "vendor/m"), remove("stage/o/a/b"), remove("stage/o/a"), remove("stage/o"), remove("stage"))
 	if !slices.Equal(disk, was) {
@@ -40,10 +39,18 @@ func TestInstallInThePlaceOfAnother(t *testing.T) {
 }
 
 func TestInstallOfWhatStandsThere(t *testing.T) {
-	m := api.Locked{Name: "m", Digest: sum.Text(sum.Of("d"))}
-	disk := []api.Entry{{Path: "vendor", Dir: true}, {Path: "vendor/m", Dir: true}}
-	check(t, Install(disk, m, nil))
-	check(t, Install(append(disk, api.Entry{Path: "stage"}), m, nil), remove("stage"))
+	within := []api.Entry{{Path: "a", Dir: true}, {Path: "a/b", Body: "x"}}
+	disk := []api.Entry{{Path: "vendor/m/a/b", Body: "x"}, {Path: "vendor/m/a", Dir: true}, {Path: "vendor", Dir: true}, {Path: "vendor/m", Dir: true}}
+	check(t, Install(disk, "m", within))
+	check(t, Install(append(disk, api.Entry{Path: "stage"}), "m", within), remove("stage"))
+	check(t, Install(disk[2:], "m", nil))
+}
+
+func TestInstallOfWhatIsUnlikeInOneBody(t *testing.T) {
+	disk := []api.Entry{{Path: "vendor", Dir: true}, {Path: "vendor/m", Dir: true}, {Path: "vendor/m/a", Body: "x"}}
+	check(t, Install(disk, "m", []api.Entry{{Path: "a", Body: "y"}}),
+		mkdir("stage"), mkdir("stage/n"), api.Act{Kind: api.Write, Path: "stage/n/a", Body: "y"},
+		move("vendor/m", "stage/o"), move("stage/n", "vendor/m"), remove("stage/o/a"), remove("stage/o"), remove("stage"))
 }
 
 func TestRecoverRemovesWhatIsWithinFirst(t *testing.T) {

@@ -20,20 +20,29 @@ func Standing(disk []api.Entry, modules []api.Locked) []int {
 
 func standingOf(disk []api.Entry, m api.Locked) int {
 	home := homeOf(m.Name)
-	i := find(disk, home)
-	switch {
-	case i < 0:
+	if find(disk, home) < 0 {
 		return api.Absent
-	case disk[i].Dir && hasDigest(tree.Within(disk, home), m.Digest):
+	}
+	if t, ok := treeAt(disk, home); ok && sum.Text(t.Digest()) == m.Digest {
 		return api.Good
 	}
 	return api.Wrong
 }
 
-// hasDigest tells whether the entries are a tree of that digest. A disk may have more in one place than a tree may.
-func hasDigest(l []api.Entry, digest string) bool {
-	t, no, _ := tree.Of(l)
-	return no == api.OK && sum.Text(t.Digest()) == digest
+// holds tells whether a directory at a path holds just the tree, told in its order. It asks for the tree itself, as another one may have the same digest.
+func holds(disk []api.Entry, path string, within []api.Entry) bool {
+	t, ok := treeAt(disk, path)
+	return ok && slices.Equal(t.Entries(), within)
+}
+
+// treeAt tells the tree that a directory at a path holds, and whether there is one: a disk may have a file there, or more than a tree may.
+func treeAt(disk []api.Entry, path string) (tree.Tree, bool) {
+	i := find(disk, path)
+	if i < 0 || !disk[i].Dir {
+		return tree.Tree{}, false
+	}
+	t, no, _ := tree.Of(tree.Within(disk, path))
+	return t, no == api.OK
 }
 
 // homeOf tells the path at which a module stands.

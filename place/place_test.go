@@ -2,6 +2,8 @@ package place
 
 import (
 	"slices"
+	"strconv"
+	"strings"
 	"testing"
 
 	"bindery/api"
@@ -25,11 +27,60 @@ func TestStanding(t *testing.T) {
 	}
 }
 
-func TestHasDigestOfTooMuch(t *testing.T) {
-	if !hasDigest(nil, sum.Text(sum.Of("d"))) || hasDigest(nil, "") {
-		t.Errorf("of nothing it is the sum of d")
+func TestTreeAtAPath(t *testing.T) {
+	disk := []api.Entry{{Path: "a", Dir: true}, {Path: "a/x", Body: "1"}, {Path: "b", Body: "1"}, {Path: "ab", Dir: true}}
+	if got, ok := treeAt(disk, "a"); !ok || !slices.Equal(got.Entries(), []api.Entry{{Path: "x", Body: "1"}}) {
+		t.Errorf("%v, %t", got, ok)
 	}
-	if hasDigest(make([]api.Entry, api.MaxEntries+1), "") {
-		t.Errorf("what is no tree has no digest")
+	if got, ok := treeAt(disk, "ab"); !ok || len(got.Entries()) != 0 {
+		t.Errorf("an empty directory holds the tree of no entries: %v, %t", got, ok)
+	}
+	if _, ok := treeAt(disk, "b"); ok {
+		t.Errorf("a file holds no tree")
+	}
+	if _, ok := treeAt(disk, "c"); ok {
+		t.Errorf("nothing holds no tree")
+	}
+}
+
+func TestTreeAtAPathOfTooMuch(t *testing.T) {
+	disk := []api.Entry{{Path: "a", Dir: true}}
+	for i := range api.MaxEntries {
+		disk = append(disk, api.Entry{Path: "a/" + strconv.Itoa(i)})
+	}
+	if _, ok := treeAt(disk, "a"); !ok {
+		t.Errorf("so many entries are a tree")
+	}
+	if _, ok := treeAt(append(disk, api.Entry{Path: "a/one_more"}), "a"); ok {
+		t.Errorf("more entries than a tree may have are none")
+	}
+	disk[1].Body = strings.Repeat("x", api.MaxAll+1)
+	if _, ok := treeAt(disk, "a"); ok {
+		t.Errorf("more bytes than a tree may have are none")
+	}
+}
+
+func TestHolds(t *testing.T) {
+	within := []api.Entry{{Path: "a", Dir: true}, {Path: "a/b", Body: "x"}, {Path: "c", Dir: true}, {Path: "d"}}
+	disk := []api.Entry{{Path: "m/d"}, {Path: "m/c", Dir: true}, {Path: "m/a/b", Body: "x"}, {Path: "m/a", Dir: true}, {Path: "m", Dir: true}, {Path: "mm", Body: "x"}}
+	was := slices.Clone(disk)
+	if !holds(disk, "m", within) || !slices.Equal(disk, was) {
+		t.Errorf("in another order it is the same tree")
+	}
+	for _, c := range []struct {
+		at int
+		is api.Entry
+	}{
+		{0, api.Entry{Path: "m/d", Dir: true}}, {0, api.Entry{Path: "m/d", Body: "x"}}, {0, api.Entry{Path: "m/a/d"}}, {1, api.Entry{Path: "m/c"}}, {1, api.Entry{Path: "m/C", Dir: true}},
+		{2, api.Entry{Path: "m/a/b", Body: "y"}}, {2, api.Entry{Path: "m/a/b"}}, {2, api.Entry{Path: "m/a/b."}}, {2, api.Entry{Path: "m/c/b", Body: "x"}},
+	} {
+		unlike := slices.Clone(disk)
+		unlike[c.at] = c.is
+		if holds(unlike, "m", within) {
+			t.Errorf("%v is taken for %v", c.is, disk[c.at])
+		}
+	}
+	if holds(disk[1:], "m", within) || holds(append(disk, api.Entry{Path: "m/e"}), "m", within) || holds(disk, "n", within) || holds(disk, "mm", nil) {
+		t.Errorf("less or more is another tree, and nothing and a file are none")
 	}
 }
